@@ -1,0 +1,3 @@
+"""Numbers that several modules agree on."""
+
+GREATEST = 10 ** 30
