@@ -29,6 +29,10 @@ METHODS = set("""
     expandtabs removeprefix removesuffix rindex isascii isdecimal isnumeric istitle isidentifier isprintable add discard
     sort __init__
 """.split())
+NO_ATTRIBUTES = set("""
+    items keys values pop update append clear extend insert remove reverse setdefault sort args encode decode hex
+    fromhex format
+""".split())
 LIBRARY = {
     "heapq": {"heappush", "heappop", "heapify", "heapreplace", "heappushpop"},
     "math": {"gcd", "lcm", "isqrt", "comb", "perm", "factorial"},
@@ -132,6 +136,56 @@ class Language(unittest.TestCase):
                 if isinstance(node, ast.Attribute):
                     self.assertNotIn(node.attr, NEVER, path)
 
+    def test_names_within_functions_are_no_imports_and_no_classes(self):
+        for path, _, tree in trees():
+            taken = {alias.name for node in tree.body if isinstance(node, ast.ImportFrom) for alias in node.names}
+            taken |= {node.name for node in tree.body if isinstance(node, ast.ClassDef)}
+            for outer in tree.body:
+                if isinstance(outer, (ast.FunctionDef, ast.ClassDef)):
+                    for name, node in bound_names(outer):
+                        if node is not outer:
+                            self.assertNotIn(name, taken, (path, node.lineno))
+
+    def test_names_at_module_level_are_bound_once(self):
+        for path, _, tree in trees():
+            names = []
+            for node in tree.body:
+                if isinstance(node, ast.ImportFrom):
+                    names.extend(alias.name for alias in node.names)
+                elif isinstance(node, (ast.FunctionDef, ast.ClassDef)):
+                    names.append(node.name)
+                elif isinstance(node, ast.Assign):
+                    names.append(node.targets[0].id)
+            self.assertEqual(len(names), len(set(names)), path)
+
+    def test_attributes(self):
+        methods = {}
+        assigned = {}
+        for path, _, tree in trees():
+            for node in ast.walk(tree):
+                if isinstance(node, ast.ClassDef):
+                    methods[node.name] = {part.name for part in node.body if isinstance(part, ast.FunctionDef)}
+                    assigned[node.name] = {
+                        part.attr for part in ast.walk(node)
+                        if isinstance(part, ast.Attribute) and isinstance(part.ctx, ast.Store)
+                    }
+        for name, attributes in assigned.items():
+            self.assertFalse(attributes & NO_ATTRIBUTES, name)
+            self.assertFalse(attributes & set().union(*methods.values()), name)
+
+    def test_iterators_are_used_at_once(self):
+        for path, _, tree in trees():
+            for node in ast.walk(tree):
+                self.assertNotIsInstance(node, (ast.GeneratorExp, ast.Yield, ast.YieldFrom, ast.SetComp, ast.Set), path)
+                if isinstance(node, ast.Call):
+                    for part in node.args:
+                        if isinstance(part, ast.Starred):
+                            self.assertIsInstance(part.value, (ast.Name, ast.Attribute), (path, node.lineno))
+                    if isinstance(node.func, ast.Name) and node.func.id == "set":
+                        # only directly in sorted(..) or len(..) here
+                        outer = [part for part in ast.walk(tree) if isinstance(part, ast.Call) and node in part.args]
+                        self.assertIn(outer[0].func.id, ("sorted", "len"), (path, node.lineno))
+
     def test_builtins_and_methods(self):
         own = {node.name for _, _, tree in trees() for node in ast.walk(tree) if isinstance(node, ast.FunctionDef)}
         for path, _, tree in trees():
@@ -175,13 +229,25 @@ class Interface(unittest.TestCase):
         "errors": ["BadText", "BadLine", "NoProgram", "Unsafe", "Taken", "NoFunction", "NoRisk", "TooMany"],
         "programs": ["is_program", "variables"],
         "graph": ["points_many", "exit_of", "edges", "fed", "parts", "heads"],
+        "running": ["run", "frames_at", "witness"],
+        "spans": ["span_join", "span_meet", "span_add", "span_sub", "span_mul", "span_div", "span_mod", "span_widen"],
+        "rests": ["rest_join", "rest_meet", "rest_add", "rest_sub", "rest_mul", "rest_div", "rest_mod"],
+        "values": ["single", "value_of", "contains", "value_within", "value_join", "value_meet", "value_widen",
+                   "value_apply"],
     }
+    NAMED = {"limits": ["GREATEST"], "values": ["EVERY"]}
 
     def test_each_name_is_defined_in_its_file(self):
         for stem, names in self.LISTED.items():
             tree = ast.parse((ROOT / "shadowruns" / (stem + ".py")).read_text())
             defined = {node.name for node in tree.body if isinstance(node, (ast.FunctionDef, ast.ClassDef))}
             self.assertLessEqual(set(names), defined, stem)
+
+    def test_each_named_value_is_assigned_in_its_file(self):
+        for stem, names in self.NAMED.items():
+            tree = ast.parse((ROOT / "shadowruns" / (stem + ".py")).read_text())
+            assigned = {node.targets[0].id for node in tree.body if isinstance(node, ast.Assign)}
+            self.assertLessEqual(set(names), assigned, stem)
 
 
 if __name__ == "__main__":
