@@ -82,11 +82,9 @@ def value_from(span, rest):
 
 
 def joined(one, other):
-    """The join of what may be None."""
+    """The join with what may be None."""
     if one is None:
         return other
-    if other is None:
-        return one
     return value_join(one, other)
 
 

@@ -234,6 +234,13 @@ class Interface(unittest.TestCase):
         "rests": ["rest_join", "rest_meet", "rest_add", "rest_sub", "rest_mul", "rest_div", "rest_mod"],
         "values": ["single", "value_of", "contains", "value_within", "value_join", "value_meet", "value_widen",
                    "value_apply"],
+        "gaps": ["no_gaps", "gaps_closed", "gaps_within", "gaps_join", "gaps_meet", "gaps_widen", "gaps_without",
+                 "gaps_moved", "gaps_bound"],
+        "pieces": ["same_pieces", "pieces_read", "pieces_write", "pieces_within", "pieces_join", "pieces_meet",
+                   "pieces_widen"],
+        "states": ["entry_state", "covers", "tightened", "state_within", "state_join", "state_meet", "state_widen",
+                   "expression_value", "transferred", "called", "returned"],
+        "engine": ["Settings", "incoming", "analyse"],
     }
     NAMED = {"limits": ["GREATEST"], "values": ["EVERY"]}
 

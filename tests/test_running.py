@@ -55,7 +55,8 @@ class Ends(unittest.TestCase):
         thing = program(result=("mul", square, square), parameters=("x",))
         self.assertEqual(end_of(thing, [GREATEST]), ("done", GREATEST ** 4))
         self.assertEqual(end_of(thing, [-GREATEST]), ("done", GREATEST ** 4))
-        self.assertEqual(end_of(program(result=("sub", X, ONE), parameters=("x",)), [-GREATEST]), ("done", -GREATEST - 1))
+        self.assertEqual(end_of(program(result=("sub", X, ONE), parameters=("x",)), [-GREATEST]),
+            ("done", -GREATEST - 1))
 
     def test_stopped(self):
         thing = program(("assume", ("less", X, ONE)), parameters=("x",), result=X)
@@ -140,7 +141,8 @@ class Ends(unittest.TestCase):
         e = ("sub", ("mul", TOP, TOP), ("sub", ("mul", TOP, TOP), num(3)))
         self.assertEqual(end_of(program(("set", "x", e), result=X)), ("done", 3))
         self.assertEqual(end_of(program(("check", ("less", TOP, ("mul", TOP, TOP))))), ("done", 0))
-        self.assertEqual(end_of(program(result=("item", "a", ("div", ("mul", TOP, TOP), ("mul", TOP, TOP))), arrays=A3)),
+        self.assertEqual(end_of(program(result=("item", "a", ("div", ("mul", TOP, TOP), ("mul", TOP, TOP))),
+            arrays=A3)),
                          ("done", 0))
 
 
@@ -271,7 +273,8 @@ class Steps(unittest.TestCase):
             (program(), ("done", 0)), (program(("set", "x", ONE)), ("open", (0, 0))),
             (program(result=("div", ONE, ZERO)), ("fault", "division", (0, 0))),
             (program(result=("item", "a", num(3)), arrays=A3), ("fault", "index", (0, 0))),
-            (program(("input", "x", 0, 0)), ("inputs", (0, 0))), (program(("set", "x", num(GREATEST + 1))), ("great", (0, 0))),
+            (program(("input", "x", 0, 0)), ("inputs", (0, 0))),
+            (program(("set", "x", num(GREATEST + 1))), ("great", (0, 0))),
             (program(("call", "x", "f", (num(-GREATEST - 1),)), others=(MORE,)), ("great", (0, 0))),
             (program(("call", "x", "f", (ONE,)), others=(MORE,)), ("open", (0, 0))),
         ]:
@@ -290,7 +293,8 @@ class Steps(unittest.TestCase):
         self.assertEqual(run(thing, [], [], 2)[0], ("great", (0, 0)))
         self.assertEqual(points_of(run(thing, [], [], 2)[1]), [(0, 0), (1, 0)])
         thing = program(("call", "x", "f", (ZERO,)), others=(MORE,))
-        self.assertEqual([run(thing, [], [], n)[0] for n in (1, 2, 3)], [("open", (0, 0)), ("open", (1, 0)), ("done", 0)])
+        self.assertEqual([run(thing, [], [], n)[0] for n in (1, 2, 3)],
+            [("open", (0, 0)), ("open", (1, 0)), ("done", 0)])
 
     def test_each_number_of_steps(self):
         for thing in (LOOP, TWO):
@@ -305,12 +309,14 @@ class Calls(unittest.TestCase):
         end, trace = run(TWO, [], [], 9)
         self.assertEqual(end, ("done", 2))
         self.assertEqual(trace, [
-            ((0, 0), ((0,), ())), ((1, 0), ((0,), ())), ((0, 1), ((1,), ())), ((1, 0), ((1,), ())), ((0, 2), ((2,), ())),
+            ((0, 0), ((0,), ())), ((1, 0), ((0,), ())), ((0, 1), ((1,), ())), ((1, 0), ((1,), ())),
+            ((0, 2), ((2,), ())),
         ])
 
     def test_parameters(self):
         called = body(name="g", parameters=("q", "p"), result=("sub", ("mul", ("var", "q"), num(10)), ("var", "p")))
-        thing = program(("call", "z", "g", (X, ("add", X, Y))), parameters=("x", "y"), result=("var", "z"), others=(called,))
+        thing = program(("call", "z", "g", (X, ("add", X, Y))), parameters=("x", "y"), result=("var", "z"),
+            others=(called,))
         end, trace = run(thing, [3, 4], [], 9)
         self.assertEqual(end, ("done", 23))
         self.assertEqual(frames_at(trace, (1, 0)), [((3, 7), ())])
@@ -318,7 +324,8 @@ class Calls(unittest.TestCase):
 
     def test_own_variables_and_arrays(self):
         called = body(
-            ("set", "x", ("add", X, ("item", "a", ZERO))), ("put", "a", ZERO, num(7)), ("put", "b", ONE, X), ("set", "x", num(9)),
+            ("set", "x", ("add", X, ("item", "a", ZERO))), ("put", "a", ZERO, num(7)), ("put", "b", ONE, X),
+            ("set", "x", num(9)),
             name="g", arrays=(("a", 1), ("b", 2)), parameters=("n",), result=("add", X, ("var", "n")),
         )
         thing = program(
@@ -347,21 +354,24 @@ class Calls(unittest.TestCase):
         self.assertEqual([numbers[0] for numbers, _ in frames_at(run(thing, [4], [], 99)[1], (1, 4))], [1, 2, 3, 4])
 
     def test_a_call_of_main(self):
-        thing = (body(("if", ("less", ZERO, X), (("call", "y", "main", (("sub", X, ONE),)), ("set", "y", ("add", Y, X))), ()),
+        thing = (body(("if", ("less", ZERO, X), (("call", "y", "main", (("sub", X, ONE),)),
+            ("set", "y", ("add", Y, X))), ()),
                       parameters=("x",), result=Y),)
         self.assertEqual(end_of(thing, [6]), ("done", 21))
         self.assertEqual(frames_at(run(thing, [2], [], 99)[1], (0, 0)), [((2, 0), ()), ((1, 0), ()), ((0, 0), ())])
 
     def test_calls_of_each_other(self):
         def half(name, other, base):
-            return body(("if", ("equal", X, ZERO), (("set", "y", num(base)),), (("call", "y", other, (("sub", X, ONE),)),)),
+            return body(("if", ("equal", X, ZERO), (("set", "y", num(base)),),
+                (("call", "y", other, (("sub", X, ONE),)),)),
                         name=name, parameters=("x",), result=Y)
         thing = program(("call", "y", "even", (X,)), parameters=("x",), result=Y,
                         others=(half("even", "odd", 1), half("odd", "even", 0)))
         self.assertEqual([end_of(thing, [n]) for n in range(6)], [("done", n % 2 == 0) for n in range(6)])
 
     def test_hundreds_of_calls_deep(self):
-        deep = body(("if", ("less", ZERO, X), (("call", "y", "deep", (("sub", X, ONE),)), ("set", "y", ("add", Y, ONE))), ()),
+        deep = body(("if", ("less", ZERO, X), (("call", "y", "deep", (("sub", X, ONE),)),
+            ("set", "y", ("add", Y, ONE))), ()),
                     name="deep", parameters=("x",), result=Y)
         thing = program(("call", "y", "deep", (X,)), parameters=("x",), result=Y, others=(deep,))
         self.assertEqual(end_of(thing, [333], (), 2000), ("open", (1, 6)))
@@ -392,10 +402,12 @@ class Values(unittest.TestCase):
 
     def test_arrays(self):
         thing = program(
-            ("put", "a", X, num(5)), ("put", "b", ZERO, ("add", ("item", "a", ONE), num(2))), ("put", "a", ONE, num(-3)),
+            ("put", "a", X, num(5)), ("put", "b", ZERO, ("add", ("item", "a", ONE), num(2))),
+            ("put", "a", ONE, num(-3)),
             arrays=(("a", 3), ("b", 1)), parameters=("x",), result=("item", "b", ZERO),
         )
-        for n, frame in ((0, ((0,), ((5, -3, 0), (2,)))), (1, ((1,), ((0, -3, 0), (7,)))), (2, ((2,), ((0, -3, 5), (2,))))):
+        for n, frame in ((0, ((0,), ((5, -3, 0), (2,)))), (1, ((1,), ((0, -3, 0), (7,)))),
+            (2, ((2,), ((0, -3, 5), (2,))))):
             end, trace = run(thing, [n], [], 99)
             self.assertEqual(trace[-1][1], frame)
             self.assertEqual(end, ("done", frame[1][1][0]))

@@ -68,7 +68,8 @@ class Making(unittest.TestCase):
             ((None, None, 1, 0), EVERY), ((None, None, 4, 3), (None, None, 4, 3)), ((None, 10, 4, 3), (None, 7, 4, 3)),
             ((0, None, 4, 3), (3, None, 4, 3)), ((3, 7, 4, 3), (3, 7, 4, 3)), ((3, 3, 1, 0), single(3)),
             ((-6, -2, 4, 3), single(-5)), ((-5, -1, 4, 3), (-5, -1, 4, 3)), ((None, None, 0, 9), single(9)),
-            ((9, None, 0, 9), single(9)), ((None, 9, 0, 9), single(9)), ((10, None, 0, 9), None), ((None, 8, 0, 9), None),
+            ((9, None, 0, 9), single(9)), ((None, 9, 0, 9), single(9)), ((10, None, 0, 9), None),
+            ((None, 8, 0, 9), None),
             ((9, 9, 0, 9), single(9)), ((8, 8, 1, 0), single(8)), ((8, 8, 3, 0), None), ((8, 9, 3, 0), single(9)),
             ((HUGE, HUGE + 10, HUGE, 3), single(HUGE + 3)), ((-HUGE, HUGE, HUGE, 0), (-HUGE, HUGE, HUGE, 0)),
         ]:
