@@ -8,11 +8,15 @@ from shadowruns.graph import edges, exit_of
 from shadowruns.limits import GREATEST
 from shadowruns.programs import variables
 from shadowruns.running import run
-from shadowruns.states import called, covers, returned, state_join, tightened, transferred
+from shadowruns.states import called, covers, expression_value, returned, state_join, tightened, transferred
 from shadowruns.values import EVERY, single, value_of
 from tests.samples import LOOP, ONE, TWO, X, Y, ZERO, as_lists, body, has_list, likely, made
 from tests.test_states import EVEN, FROM0, N0, N1, N5, TEN, TWO_OF, ZEROS, drawn_state, frames, simple, state
+from tests.drawing import CALLEE, CALLER, Drawing
 from tests.walker import End, Walker
+from tests.words import (
+    called_by_the_words, expression_value_by_the_words, returned_by_the_words, transferred_by_the_words,
+)
 
 ALL = (-GREATEST, GREATEST, 1, 0)
 TOP = ("num", GREATEST)
@@ -565,6 +569,41 @@ class SmallNumbers(unittest.TestCase):
                     reached += 1
                     self.assertTrue(covers(TWO_OF, found, frame), (start, action, numbers))
         self.assertGreater(reached, 5000)
+
+
+class AllActions(unittest.TestCase):
+    """Everything is as the words of the document say, one after the other."""
+
+    def draws(self, seed, many):
+        drawing = Drawing(random.Random(seed))
+        for _ in range(many):
+            has_gaps = drawing.chance.random() < 0.6
+            yield drawing, drawing.state(CALLER, has_gaps), has_gaps
+
+    def test_transferred(self):
+        seen = {}
+        for drawing, start, _ in self.draws(1, 4000):
+            action = drawing.action()
+            found = transferred(CALLER, start, action)
+            self.assertEqual(found, transferred_by_the_words(CALLER, start, action), (start, action))
+            key = (action[0], found is None)
+            seen[key] = seen.get(key, 0) + 1
+        self.assertEqual(len(seen), 16)
+        self.assertGreater(min(seen.values()), 50)
+
+    def test_expression_value(self):
+        for drawing, start, _ in self.draws(2, 2500):
+            e = drawing.expression(3)
+            found = expression_value(CALLER, start, e)
+            self.assertEqual(found, expression_value_by_the_words(CALLER, start, e), (start, e))
+
+    def test_called_and_returned(self):
+        thing = (CALLER, CALLEE)
+        for drawing, start, has_gaps in self.draws(3, 2500):
+            call, last = drawing.call(), drawing.state(CALLEE, has_gaps)
+            self.assertEqual(called(thing, 0, start, call), called_by_the_words(thing, 0, start, call), (start, call))
+            found = returned(thing, 0, start, call, last)
+            self.assertEqual(found, returned_by_the_words(thing, 0, start, call, last), (start, call, last))
 
 
 class General(unittest.TestCase):

@@ -29,6 +29,34 @@ def only(*values):
     return (values, None, ())
 
 
+def turn(name, other):
+    """A function that calls another one with one less, until that is 0."""
+    call = ("call", "y", other, (("sub", X, ONE),))
+    return body(("if", ("less", ZERO, X), (call, ("set", "y", ("add", Y, ONE))), ()), name=name, parameters=("x",), result=Y)
+
+
+def loop_to(name, bound, *statements):
+    """A loop that counts a variable up."""
+    step = ("set", name, ("add", ("var", name), ONE))
+    return ("while", ("less", ("var", name), bound), statements + (step,))
+
+
+NESTED = program(
+    loop_to("x", num(4), ("set", "y", ZERO), loop_to("y", X, loop_to("z", Y), ("put", "a", Y, ("sub", X, Y)))),
+    arrays=(("a", 3),), result=("item", "a", ("sub", X, num(2))),
+)
+SPECIAL = [
+    TINY, LOOP, TWO, NESTED,
+    (turn("main", "main"),),
+    program(("call", "z", "f", (("var", "n"),)), parameters=("n",), result=("var", "z"), others=(turn("f", "f"),)),
+    program(("call", "z", "f", (X,)), ("call", "x", "g", (("var", "z"),)), parameters=("x",), result=X,
+            others=(turn("f", "g"), turn("g", "f"))),
+    (turn("main", "f"), turn("f", "main"), turn("g", "g")),
+    (body(("call", "x", "main", ())), MORE),
+    (body(loop_to("x", num(3), ("call", "y", "f", (X,))), result=Y), MORE, body(loop_to("x", num(9)), name="h")),
+]
+
+
 def incoming_by_the_words(thing, begin, table, point, has_gaps):
     """What reaches a point, by the words of [15], one after the other."""
     states = [state for row in table for state in row if state is not None]
@@ -220,7 +248,7 @@ class Incoming(unittest.TestCase):
 
     def test_by_the_words(self):
         chance = random.Random(1)
-        for thing in [TINY, LOOP, TWO] + likely(40) + made(20):
+        for thing in SPECIAL + likely(40) + made(20):
             begin = [chance.choice(BEGINS) for _ in thing[0][1]]
             has_gaps = chance.random() < 0.5
             table = analyse(thing, begin, Settings(gaps=has_gaps, narrow=0, delay=0))
@@ -263,6 +291,25 @@ class Tables(unittest.TestCase):
     def test_a_call_that_never_comes_back(self):
         thing = (body(("call", "x", "main", ())),)
         self.assertEqual(analyse(thing, ()), [[only(N0), None]])
+
+    def test_calls_of_each_other_and_of_main(self):
+        for thing in SPECIAL[4:8]:
+            main = analyse(thing, ((0, 6, 1, 0),))[0]
+            for n in range(7):
+                end, trace = run(thing, [n], [], 99)
+                self.assertEqual(end[0], "done")
+                self.assertTrue(covers(thing[0], main[exit_of(thing[0])], trace[-1][1]))
+        table = analyse(SPECIAL[4], ((0, 6, 1, 0),))
+        self.assertEqual(table[0][0], only((0, 6, 1, 0), N0))
+        # a function that is never called, though it calls itself
+        self.assertEqual(analyse(SPECIAL[7], ((0, 6, 1, 0),))[2], [None] * points_many(SPECIAL[7][2]))
+
+    def test_loops_within_loops(self):
+        table = analyse(NESTED, (), Settings(marks=(0, 1, 2, 3, 4), gaps=True))
+        # 0 skip 1; 1 when 2, unless 3
+        self.assertEqual(table[0][2][0][0], (0, 3, 1, 0))
+        self.assertEqual(table[0][3][0][0], single(4))
+        self.assertEqual(run(NESTED, [], [], 999)[0], ("done", 1))
 
     def test_arrays(self):
         fill = ("while", ("less", X, num(3)), (("put", "a", X, num(7)), ("set", "x", ("add", X, ONE))))
@@ -344,7 +391,7 @@ class EachSetting(unittest.TestCase):
 class AllPrograms(unittest.TestCase):
     def draws(self, seed, many):
         chance = random.Random(seed)
-        for thing in [TINY, LOOP, TWO] + likely(many, seed * 1000) + made(many // 4):
+        for thing in SPECIAL * 3 + likely(many, seed * 1000) + made(many // 4):
             begin = tuple(chance.choice(BEGINS) for _ in thing[0][1])
             yield chance, thing, begin, drawn_settings(chance, thing)
 

@@ -11,7 +11,7 @@ from shadowruns.gaps import (
 from tests.samples import as_lists, has_list
 
 FREE = (None, None)
-FAR = 10 ** 13
+FAR = 2345678901234
 ONE = ((0, 2, None), (None, 0, 3), (-4, None, 0))
 OTHER = ((0, 4, None), (5, 0, 2), (-4, None, 0))
 
