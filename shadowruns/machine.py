@@ -50,7 +50,7 @@ class Run:
 
     def visit(self, point, frame):
         """Goes on at a POINT with a FRAME, unless the trace has all its steps already."""
-        if len(self.trace) == self.steps:
+        if len(self.trace) >= self.steps:
             self.end = ("open", self.point)
             return
         self.point = point
