@@ -1,6 +1,7 @@
 """The analysis: TABLEs that describe all runs of a PROGRAM."""
 
 from shadowruns.graph import heads, parts
+from shadowruns.kinds import StateKind
 from shadowruns.plans import Plan
 from shadowruns.rounds import Rounds
 from shadowruns.shapes import as_tuples
@@ -26,19 +27,16 @@ class Settings:
 def incoming(program, begin, table, point, has_gaps=False):
     """The join of what reaches a POINT; with GAPS if the TABLE has them, or has no STATE and has_gaps."""
     states = as_tuples(table)
-    given = as_tuples(begin)
-    return Plan(as_tuples(program)).reaching(given, states, as_tuples(point), with_gaps(states, has_gaps))
+    plan = Plan(as_tuples(program), StateKind(with_gaps(states, has_gaps)))
+    return plan.reaching(as_tuples(begin), states, as_tuples(point))
 
 
 def analyse(program, begin, settings=None):
     """A TABLE that describes all runs whose numbers are in the VALUEs of begin."""
     chosen = Settings() if settings is None else settings
     functions = as_tuples(program)
-    rounds = Rounds(Plan(functions), as_tuples(begin), chosen, heads(functions))
-    for part in parts(functions):
-        points = rounds.in_order(part)
-        rounds.ascend(points)
-        rounds.descend(points)
+    rounds = Rounds(Plan(functions, StateKind(chosen.gaps)), as_tuples(begin), chosen, heads(functions))
+    rounds.tell(parts(functions))
     return rounds.table
 
 

@@ -1,17 +1,23 @@
-"""Rounds of visits to the POINTs of a PROGRAM that make a TABLE."""
-
-from shadowruns.mixing import join_states, meet_states, widen_states, within_state
+"""Rounds of visits to the POINTs of a PROGRAM that make a table of descriptions."""
 
 
 class Rounds:
-    """A TABLE that is being made, and what its STATEs come from."""
+    """A table that is being made, and what its descriptions come from."""
 
     def __init__(self, plan, begin, settings, heads):
         self.plan = plan
+        self.kind = plan.kind
         self.begin = begin
         self.settings = settings
         self.heads = {point: True for point in heads}
         self.table = [[None] * many for many in plan.sizes]
+
+    def tell(self, parts):
+        """Makes the descriptions of these parts, one part behind the other."""
+        for part in parts:
+            points = self.in_order(part)
+            self.ascend(points)
+            self.descend(points)
 
     def in_order(self, points):
         """The POINTs in the order in which they are visited."""
@@ -20,7 +26,7 @@ class Rounds:
 
     def new(self, point):
         """What reaches a POINT at this time."""
-        return self.plan.reaching(self.begin, self.table, point, self.settings.gaps)
+        return self.plan.reaching(self.begin, self.table, point)
 
     def ascend(self, points):
         """Rounds until one changes nothing."""
@@ -33,15 +39,15 @@ class Rounds:
                     moving = True
 
     def grown(self, point, changes):
-        """Visits a POINT; whether its STATE has changed."""
+        """Visits a POINT; whether its description has changed."""
         f, k = point
         old, new = self.table[f][k], self.new(point)
-        if within_state(new, old):
+        if self.kind.inside(new, old):
             return False
         changes[point] += 1
-        both = join_states(old, new)
+        both = self.kind.both(old, new)
         if point in self.heads and changes[point] > self.settings.delay:
-            both = widen_states(old, both, self.settings.marks)
+            both = self.kind.widened(old, both, self.settings.marks)
         self.table[f][k] = both
         return True
 
@@ -51,7 +57,7 @@ class Rounds:
             moving = False
             for f, k in points:
                 old = self.table[f][k]
-                self.table[f][k] = meet_states(old, self.new((f, k)))
+                self.table[f][k] = self.kind.common(old, self.new((f, k)))
                 if self.table[f][k] != old:
                     moving = True
             if not moving:

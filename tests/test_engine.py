@@ -10,51 +10,9 @@ from shadowruns.running import run
 from shadowruns.states import (
     called, covers, entry_state, returned, state_join, state_meet, state_widen, state_within, transferred,
 )
-from shadowruns.values import EVERY, contains, single, value_meet
-from tests.samples import (
-    LOOP, MORE, ONE, TINY, TWO, X, Y, ZERO, as_lists, body, has_list, likely, made, program,
-)
-
-ALL = (-GREATEST, GREATEST, 1, 0)
-BEGINS = [EVERY, (0, 10, 1, 0), (-3, None, 1, 0), single(2), (1, None, 2, 1), (None, 5, 1, 0), (-6, 6, 3, 0)]
-N0 = single(0)
-
-
-def num(n):
-    return ("num", n)
-
-
-def only(*values):
-    """A state without gaps and arrays."""
-    return (values, None, ())
-
-
-def turn(name, other):
-    """A function that calls another one with one less, until that is 0."""
-    call = ("call", "y", other, (("sub", X, ONE),))
-    return body(("if", ("less", ZERO, X), (call, ("set", "y", ("add", Y, ONE))), ()), name=name, parameters=("x",), result=Y)
-
-
-def loop_to(name, bound, *statements):
-    """A loop that counts a variable up."""
-    step = ("set", name, ("add", ("var", name), ONE))
-    return ("while", ("less", ("var", name), bound), statements + (step,))
-
-
-NESTED = program(
-    loop_to("x", num(4), ("set", "y", ZERO), loop_to("y", X, loop_to("z", Y), ("put", "a", Y, ("sub", X, Y)))),
-    arrays=(("a", 3),), result=("item", "a", ("sub", X, num(2))),
-)
-SPECIAL = [
-    TINY, LOOP, TWO, NESTED,
-    (turn("main", "main"),),
-    program(("call", "z", "f", (("var", "n"),)), parameters=("n",), result=("var", "z"), others=(turn("f", "f"),)),
-    program(("call", "z", "f", (X,)), ("call", "x", "g", (("var", "z"),)), parameters=("x",), result=X,
-            others=(turn("f", "g"), turn("g", "f"))),
-    (turn("main", "f"), turn("f", "main"), turn("g", "g")),
-    (body(("call", "x", "main", ())), MORE),
-    (body(loop_to("x", num(3), ("call", "y", "f", (X,))), result=Y), MORE, body(loop_to("x", num(9)), name="h")),
-]
+from shadowruns.values import EVERY, single, value_meet
+from tests.samples import LOOP, MORE, ONE, TINY, TWO, X, Y, ZERO, as_lists, body, has_list, likely, made, program
+from tests.tables import ALL, BEGINS, N0, NESTED, SPECIAL, all_points, draws, num, only, runs_of
 
 
 def incoming_by_the_words(thing, begin, table, point, has_gaps):
@@ -114,26 +72,6 @@ def analysed_by_the_words(thing, begin, settings):
             for f, k in points:
                 table[f][k] = state_meet(table[f][k], new_at(f, k))
     return table
-
-
-def all_points(thing):
-    return [(f, k) for f, function in enumerate(thing) for k in range(points_many(function))]
-
-
-def drawn_settings(chance, thing):
-    points = all_points(thing) + [(9, 0), (0, 999), (-1, 0)]
-    return Settings(
-        gaps=chance.random() < 0.6, delay=chance.choice([0, 0, 1, 2, 3, 10, 40]), narrow=chance.choice([0, 1, 2, 3, 6]),
-        marks=tuple(sorted(set(chance.randint(-20, 20) for _ in range(chance.randint(0, 6))))),
-        order=chance.sample(points, min(len(points), chance.randint(0, 8))),
-    )
-
-
-def drawn_number(chance, value):
-    while True:
-        n = chance.choice([chance.randint(-12, 12), chance.randint(-10 ** 6, 10 ** 6), GREATEST, -GREATEST])
-        if contains(value, n):
-            return n
 
 
 class Examples(unittest.TestCase):
@@ -389,43 +327,35 @@ class EachSetting(unittest.TestCase):
 
 
 class AllPrograms(unittest.TestCase):
-    def draws(self, seed, many):
-        chance = random.Random(seed)
-        for thing in SPECIAL * 3 + likely(many, seed * 1000) + made(many // 4):
-            begin = tuple(chance.choice(BEGINS) for _ in thing[0][1])
-            yield chance, thing, begin, drawn_settings(chance, thing)
-
     def test_tables_are_as_the_document_says(self):
-        for _, thing, begin, settings in self.draws(1, 50):
+        for _, thing, begin, settings in draws(1, 50):
             self.assertEqual(analyse(thing, begin, settings), analysed_by_the_words(thing, begin, settings))
 
     def test_every_frame_of_every_run_is_described(self):
         seen = 0
-        for chance, thing, begin, settings in self.draws(2, 200):
+        for chance, thing, begin, settings in draws(2, 200):
             table = analyse(thing, begin, settings)
-            for _ in range(5):
-                numbers = [drawn_number(chance, value) for value in begin]
-                trace = run(thing, numbers, [chance.randint(-4, 7) for _ in range(20)], 300)[1]
+            for _, trace in runs_of(chance, thing, begin, 5):
                 seen += len(trace)
                 for (f, k), frame in trace:
                     self.assertTrue(covers(thing[f], table[f][k], frame), (thing, begin, (f, k), frame))
         self.assertGreater(seen, 20000)
 
     def test_tables_are_confirmed_by_what_comes_in(self):
-        for _, thing, begin, settings in self.draws(3, 60):
+        for _, thing, begin, settings in draws(3, 60):
             table = analyse(thing, begin, settings)
             for f, k in all_points(thing):
                 new = incoming(thing, begin, table, (f, k), settings.gaps)
                 self.assertTrue(state_within(new, table[f][k]), (thing, begin, (f, k)))
 
     def test_all_states_have_gaps_or_none_has(self):
-        for _, thing, begin, settings in self.draws(4, 60):
+        for _, thing, begin, settings in draws(4, 60):
             for row in analyse(thing, begin, settings):
                 for state in row:
                     self.assertTrue(state is None or (state[1] is not None) == settings.gaps)
 
     def test_lists_names_and_unchanged_arguments(self):
-        for _, thing, begin, settings in self.draws(5, 40):
+        for _, thing, begin, settings in draws(5, 40):
             lists, values = as_lists(thing), as_lists(begin)
             table = analyse(settings=settings, begin=values, program=lists)
             self.assertEqual(table, analyse(thing, begin, settings))
@@ -438,7 +368,7 @@ class AllPrograms(unittest.TestCase):
             self.assertEqual((rough, lists, values), (as_lists(table), as_lists(thing), as_lists(begin)))
 
     def test_kinds_of_values(self):
-        for _, thing, begin, settings in self.draws(6, 40):
+        for _, thing, begin, settings in draws(6, 40):
             table = analyse(as_lists(thing), as_lists(begin), settings)
             self.assertIs(type(table), list)
             self.assertEqual([len(row) for row in table], [points_many(function) for function in thing])

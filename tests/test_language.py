@@ -241,6 +241,12 @@ class Interface(unittest.TestCase):
         "states": ["entry_state", "covers", "tightened", "state_within", "state_join", "state_meet", "state_widen",
                    "expression_value", "transferred", "called", "returned"],
         "engine": ["Settings", "incoming", "analyse"],
+        "checker": ["is_table", "confirms", "first_break", "tables_meet", "tables_within", "first_outside",
+                    "result_of"],
+        "verdicts": ["risks", "verdict", "verdicts", "faults_in"],
+        "splits": ["unrolled", "copied", "parted", "folded"],
+        "classes": ["is_naming", "classes", "class_of", "value_of_sort", "classes_meeting", "sort_apply", "sorts_told",
+                    "sorts_confirmed", "sorts_cover"],
     }
     NAMED = {"limits": ["GREATEST"], "values": ["EVERY"]}
 

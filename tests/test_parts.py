@@ -3,7 +3,7 @@
 import unittest
 
 from shadowruns.graph import edges, exit_of, fed, heads, parts, points_many
-from tests.samples import ATOM, LOOP, MORE, ONE, TINY, TWO, X, Y, ZERO, as_lists, body, made, program
+from tests.samples import ATOM, LOOP, MORE, ONE, TINY, TWO, X, as_lists, body, made, program
 
 SET = ("set", "x", ONE)
 CALL_F = ("call", "x", "f", (X,))

@@ -7,7 +7,7 @@ from shadowruns.graph import edges, exit_of
 from shadowruns.limits import GREATEST
 from shadowruns.running import frames_at, run, witness
 from tests.samples import (
-    ATOM, LOOP, MORE, ONE, TINY, TWO, X, Y, ZERO, as_lists, body, has_list, made, program,
+    LOOP, MORE, ONE, TINY, TWO, X, Y, ZERO, as_lists, body, has_list, made, program,
 )
 from tests.walker import walked
 
