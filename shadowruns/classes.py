@@ -46,7 +46,7 @@ def sorts_told(program, begin, naming):
     # without heads and narrowing there are ascending rounds alone
     rounds = Rounds(plan, as_tuples(begin), Settings(narrow=0), ())
     rounds.tell(parts(functions))
-    return rounds.table
+    return rounds.rows
 
 
 def sorts_confirmed(program, begin, naming, table):

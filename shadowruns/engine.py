@@ -37,7 +37,7 @@ def analyse(program, begin, settings=None):
     functions = as_tuples(program)
     rounds = Rounds(Plan(functions, StateKind(chosen.gaps)), as_tuples(begin), chosen, heads(functions))
     rounds.tell(parts(functions))
-    return rounds.table
+    return rounds.rows
 
 
 def with_gaps(table, otherwise):

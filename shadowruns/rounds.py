@@ -2,15 +2,15 @@
 
 
 class Rounds:
-    """A table that is being made, and what its descriptions come from."""
+    """The rows of a table that is being made, and what its descriptions come from."""
 
     def __init__(self, plan, begin, settings, heads):
         self.plan = plan
         self.kind = plan.kind
-        self.begin = begin
+        self.first = begin
         self.settings = settings
         self.heads = {point: True for point in heads}
-        self.table = [[None] * many for many in plan.sizes]
+        self.rows = [[None] * many for many in plan.sizes]
 
     def tell(self, parts):
         """Makes the descriptions of these parts, one part behind the other."""
@@ -26,7 +26,7 @@ class Rounds:
 
     def new(self, point):
         """What reaches a POINT at this time."""
-        return self.plan.reaching(self.begin, self.table, point)
+        return self.plan.reaching(self.first, self.rows, point)
 
     def ascend(self, points):
         """Rounds until one changes nothing."""
@@ -41,14 +41,14 @@ class Rounds:
     def grown(self, point, changes):
         """Visits a POINT; whether its description has changed."""
         f, k = point
-        old, new = self.table[f][k], self.new(point)
+        old, new = self.rows[f][k], self.new(point)
         if self.kind.inside(new, old):
             return False
         changes[point] += 1
         both = self.kind.both(old, new)
         if point in self.heads and changes[point] > self.settings.delay:
             both = self.kind.widened(old, both, self.settings.marks)
-        self.table[f][k] = both
+        self.rows[f][k] = both
         return True
 
     def descend(self, points):
@@ -56,9 +56,9 @@ class Rounds:
         for _ in range(self.settings.narrow):
             moving = False
             for f, k in points:
-                old = self.table[f][k]
-                self.table[f][k] = self.kind.common(old, self.new((f, k)))
-                if self.table[f][k] != old:
+                old = self.rows[f][k]
+                self.rows[f][k] = self.kind.common(old, self.new((f, k)))
+                if self.rows[f][k] != old:
                     moving = True
             if not moving:
                 return

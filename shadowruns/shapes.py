@@ -9,5 +9,6 @@ def is_whole(thing):
 def as_tuples(thing):
     """The same thing with a tuple for each list, at every depth."""
     if isinstance(thing, (list, tuple)):
-        return tuple([as_tuples(part) for part in thing])
+        # a map, for its steps do not add to how deep the calls are
+        return tuple(map(as_tuples, thing))
     return thing

@@ -27,16 +27,20 @@ def verdict(program, table, point):
 
 def verdicts(program, table):
     """The list of the triples (POINT, kind, verdict) for all risks."""
-    functions = as_tuples(program)
-    return [
-        (point, KINDS[action[0]], verdict_of(functions, table, point, action))
-        for point, action in risky_edges(functions)
-    ]
+    return all_verdicts(as_tuples(program), table)
 
 
 def faults_in(program, table):
     """The triples of verdicts that are "always" or "maybe"."""
     return [row for row in verdicts(program, table) if row[2] in ("always", "maybe")]
+
+
+def all_verdicts(program, table):
+    """The same for a PROGRAM that is tuples throughout."""
+    return [
+        (point, KINDS[action[0]], verdict_of(program, table, point, action))
+        for point, action in risky_edges(program)
+    ]
 
 
 def risky_edges(program):

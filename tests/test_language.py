@@ -247,6 +247,10 @@ class Interface(unittest.TestCase):
         "splits": ["unrolled", "copied", "parted", "folded"],
         "classes": ["is_naming", "classes", "class_of", "value_of_sort", "classes_meeting", "sort_apply", "sorts_told",
                     "sorts_confirmed", "sorts_cover"],
+        "repair": ["carried", "go_on"],
+        "session": ["Session"],
+        "texts": ["program_text", "program_in", "value_text"],
+        "desk": ["answers"],
     }
     NAMED = {"limits": ["GREATEST"], "values": ["EVERY"]}
 

@@ -194,6 +194,15 @@ class Copied(unittest.TestCase):
             copied(thing, "f", ["g", "h"])
         self.assertEqual(caught.exception.many, 1)
 
+    def test_calls_within_the_function_ahead_of_others(self):
+        itself = body(("call", "x", "f", (X,)), name="f", parameters=("x",))
+        caller = body(("call", "x", "f", (ONE,)), name="h")
+        changed = body(("call", "x", "g", (ONE,)), name="h")
+        self.assertEqual(copied((body(), itself, caller), "f", ["g"])[0], (body(), itself, changed, ("g",) + itself[1:]))
+        main = body(("call", "x", "main", ()))
+        caller, changed = body(("call", "x", "main", ()), name="h"), body(("call", "x", "g", ()), name="h")
+        self.assertEqual(copied((main, caller), "main", ["g"])[0], (main, changed, ("g",) + main[1:]))
+
     def test_main_itself(self):
         thing = SPECIAL[7]
         new, origins = copied(thing, "main", ["k"])
