@@ -234,7 +234,7 @@ class Breaks(unittest.TestCase):
 
     def test_states_left_out_or_made_less(self):
         broken = 0
-        for chance, thing, begin, settings in draws(3, 40):
+        for chance, thing, begin, settings in draws(3, 12):
             table = analyse(thing, begin, settings)
             places = [(f, k) for f, k in all_points(thing) if table[f][k] is not None]
             if not places:
@@ -250,7 +250,7 @@ class Breaks(unittest.TestCase):
                 self.assertEqual(first_break(thing, begin, rough), expected)
                 self.assertIs(confirms(thing, begin, rough), expected is None)
                 broken += expected is not None
-        self.assertGreater(broken, 80)
+        self.assertGreater(broken, 50)
 
     def test_tables_that_no_analysis_gave(self):
         self.assertIs(confirms(LOOP, (), [[only(EVERY)] * 5]), True)

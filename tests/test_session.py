@@ -341,7 +341,7 @@ class Computed(unittest.TestCase):
     def test_clause_by_clause(self):
         chance = random.Random(1)
         sizes = {"all": 0, "some": 0, "none": 0}
-        for thing in SPECIAL * 2 + likely(60, 9000):
+        for thing in SPECIAL + likely(36, 9000):
             begin = tuple(chance.choice(BEGINS) for _ in thing[0][1])
             settings = drawn_settings(chance, thing)
             talk = Session(thing, begin, settings)
@@ -373,7 +373,7 @@ class Computed(unittest.TestCase):
                 self.assertEqual(talk.computed(), expected)
                 many = len(all_points(talk.program()))
                 sizes["all" if len(expected) == many else "some" if expected else "none"] += 1
-        self.assertTrue(min(sizes.values()) > 20, sizes)
+        self.assertTrue(min(sizes.values()) > 10, sizes)
 
 
 class Equality(unittest.TestCase):
