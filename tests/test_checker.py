@@ -204,7 +204,7 @@ class IsTable(unittest.TestCase):
 
 class Breaks(unittest.TestCase):
     def test_tables_of_analyse_are_confirmed(self):
-        for chance, thing, begin, settings in draws(2, 60):
+        for chance, thing, begin, settings in draws(2, 30):
             table = analyse(thing, begin, settings)
             for given in (begin, begin_within(chance, begin)):
                 self.assertIs(confirms(thing, given, table), True, (thing, given))
@@ -260,7 +260,7 @@ class Breaks(unittest.TestCase):
         self.assertEqual(first_break(LOOP, (), changed(found, [0, 1], only((0, 11, 3, 0)))), (0, 1))
 
     def test_confirmed_tables_describe_all_runs(self):
-        for chance, thing, begin, settings in draws(4, 60):
+        for chance, thing, begin, settings in draws(4, 30):
             wide = [value_join(value, chance.choice(BEGINS)) for value in begin]
             table = tables_meet(analyse(thing, wide, settings), analyse(thing, begin, Settings(gaps=settings.gaps)))
             self.assertIs(confirms(thing, begin, table), True)
@@ -295,7 +295,7 @@ class Meets(unittest.TestCase):
 
     def test_meets_of_confirmed_tables_are_confirmed(self):
         different = 0
-        for chance, thing, begin, settings in draws(6, 60):
+        for chance, thing, begin, settings in draws(6, 30):
             points = all_points(thing)
             others = Settings(gaps=settings.gaps, delay=chance.choice([0, 5]), narrow=0, marks=(1, 5, 9), order=points[::-1])
             wide = [value_join(value, chance.choice(BEGINS)) for value in begin]
@@ -305,7 +305,7 @@ class Meets(unittest.TestCase):
             self.assertIs(confirms(thing, begin, found), True, (thing, begin, settings))
             self.assertIs(is_table(thing, found), True)
             self.assertTrue(tables_within(found, one) and tables_within(found, other))
-        self.assertGreater(different, 5)
+        self.assertGreater(different, 3)
 
     def test_new_lists_and_unchanged_arguments(self):
         one, other = as_lists(TABLE), copy.deepcopy(TABLE)
@@ -372,13 +372,13 @@ class Outside(unittest.TestCase):
 
     def test_by_the_words(self):
         found = 0
-        for chance, thing, begin, settings in draws(8, 60):
+        for chance, thing, begin, settings in draws(8, 30):
             table = analyse(thing, [N0] * len(begin), settings)
             for _, trace in runs_of(chance, thing, begin, 3):
                 outside = [k for k, ((f, k2), frame) in enumerate(trace) if not covers(thing[f], table[f][k2], frame)]
                 found += len(outside) > 0
                 self.assertEqual(first_outside(thing, table, trace), outside[0] if outside else None)
-        self.assertGreater(found, 50)
+        self.assertGreater(found, 30)
 
     def test_gaps_and_items(self):
         frame = ((3, 0), ((0, 1, 1), (5,)))

@@ -215,7 +215,7 @@ class Sorts(unittest.TestCase):
             self.assertNotEqual(sort_apply(ONE_CLASS, sign, ("all",), ("all",)), ())
 
     def test_sort_apply_beside_the_results_of_windows(self):
-        for chance, naming in drawn(5, 20):
+        for chance, naming in drawn(5, 10):
             for sign in OPERATIONS:
                 one, other = drawn_sort(chance, naming), drawn_sort(chance, naming)
                 results = [operate(sign, a, b) for a in members(naming, one) for b in members(naming, other)]

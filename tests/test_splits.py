@@ -307,7 +307,7 @@ class Parted(unittest.TestCase):
 class Runs(unittest.TestCase):
     def test_traces_and_ends(self):
         many = changed = 0
-        for chance, thing, begin, _ in draws(1, 120):
+        for chance, thing, begin, _ in draws(1, 80):
             tries = drawn_runs(chance, begin, 2)
             for new, origins in all_splits(thing, chance):
                 self.assertTrue(is_program(new))
@@ -352,7 +352,7 @@ class Folded(unittest.TestCase):
         self.assertEqual(folded(two, origins, [[None] * 3, [None], [None] * 2]), [[None, None], [None]])
 
     def test_by_the_words(self):
-        for chance, thing, begin, settings in draws(2, 25):
+        for chance, thing, begin, settings in draws(2, 8):
             for new, origins in all_splits(thing, chance):
                 table = analyse(new, begin, settings)
                 expected = []

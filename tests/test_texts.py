@@ -304,8 +304,9 @@ class Read(unittest.TestCase):
         chance = random.Random(8)
         words = ["set", "x", "n", "a", "1", "-3", "+", "@", "<", "!", "&", "if", "end", "else", "?", "", "call", "main", "return"]
         good = 0
-        for _ in range(3000):
-            lines = text_by_the_words(chance.choice(likely(5))).split("\n")
+        things = likely(5)
+        for _ in range(1500):
+            lines = text_by_the_words(chance.choice(things)).split("\n")
             at = chance.randrange(len(lines))
             row = lines[at].split(" ")
             kind = chance.random()
@@ -331,7 +332,7 @@ class Read(unittest.TestCase):
                 good += 1
                 self.assertIs(is_program(found), True)
                 self.assertEqual(program_text(found), "\n".join(lines))
-        self.assertGreater(good, 200)
+        self.assertGreater(good, 100)
 
     def test_kinds_of_values(self):
         found = program_in("function main n\narray a 3\nif < n 1\nput a 0 @ a n\nelse\ncall x main 1\nend\nreturn 0")

@@ -153,7 +153,7 @@ class EachVerdict(unittest.TestCase):
 
     def test_by_the_words(self):
         seen = {}
-        for _, thing, begin, settings in draws(1, 100):
+        for _, thing, begin, settings in draws(1, 60):
             table = analyse(thing, begin, settings)
             rows = [(point, kind, verdict_by_the_words(thing, table, point)) for point, kind in risks(thing)]
             self.assertEqual(verdicts(thing, table), rows)
@@ -194,7 +194,7 @@ class NoRisks(unittest.TestCase):
 class Guarantee(unittest.TestCase):
     def test_verdicts_are_never_wrong(self):
         ends = {}
-        for chance, thing, begin, settings in draws(2, 200):
+        for chance, thing, begin, settings in draws(2, 120):
             table = analyse(thing, begin, settings)
             words = {point: word for point, _, word in verdicts(thing, table)}
             kinds = dict(risks(thing))

@@ -91,7 +91,7 @@ class Guarantees(unittest.TestCase):
 
     def test_d_one_change_after_another(self):
         changed = 0
-        for chance, thing, begin, settings, tries in drawn(2, 40):
+        for chance, thing, begin, settings, tries in drawn(2, 25):
             programs, steps = [thing], []
             for _ in range(3):
                 if size(programs[-1]) < 120:
@@ -116,7 +116,7 @@ class Guarantees(unittest.TestCase):
             self.described(thing, tables_meet(table, both), tries)
             if steps:
                 self.runs_are_the_same(thing, programs[-1], steps, tries)
-        self.assertGreater(changed, 60)
+        self.assertGreater(changed, 40)
 
     def runs_are_the_same(self, thing, new, steps, tries):
         """Each run of a program that was changed in several steps, seen through all of them."""
@@ -181,7 +181,7 @@ class Guarantees(unittest.TestCase):
                         self.assertIs(sorts_cover(naming, table[f][k], frame), True)
 
     def test_texts_between(self):
-        for chance, thing, begin, settings, _ in drawn(6, 25):
+        for chance, thing, begin, settings, _ in drawn(6, 10):
             new, _ = one_split(chance, thing)
             for either in (thing, new):
                 again = program_in(program_text(either))
